@@ -1,0 +1,1 @@
+"""Sumlives decides whether handlers keep the totals of rows right."""

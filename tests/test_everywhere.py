@@ -1,0 +1,117 @@
+"""[1], [2], [3]: what holds for all functions and classes."""
+
+import unittest
+
+from sumlives.errors import InvalidVector
+from sumlives.lattices import Lattice
+from sumlives.systems import Factors
+from tests.helpers import great_rows
+
+
+class Names(unittest.TestCase):
+    """[2]: arguments by name, in any order."""
+
+    def test_lattice(self):
+        some = Lattice(2, [(4, 6), (6, 9)])
+        self.assertEqual(Lattice(rows=[(4, 6), (6, 9)], width=2), some)
+        self.assertEqual(Lattice(2, rows=((4, 6), (6, 9))), some)
+        self.assertEqual(Lattice(width=2), Lattice(2, ()))
+        self.assertEqual(some.reduced(vector=(5, 5)), some.reduced((5, 5)))
+        self.assertEqual(some.divisor(form=(1, 1)), 5)
+
+    def test_factors(self):
+        some = Factors(2, (5, 1), [(2, 1)])
+        self.assertEqual(Factors(rows=[(2, 1)], point=(5, 1), width=2), some)
+        self.assertEqual(Factors(2, rows=((2, 1),), point=(5, 1)), some)
+        self.assertEqual(Factors(width=2), Factors(2, None, ()))
+        self.assertEqual(Factors.every(width=2), Factors.every(2))
+        self.assertEqual(Factors.solving(rights=[7], forms=[(2, 3)], width=2), Factors.solving(2, [(2, 3)], [7]))
+        self.assertEqual(Factors.read(text="5 1 + 2 1"), some)
+
+    def test_other_names_are_none(self):
+        for call in (lambda: Lattice(2, vectors=()), lambda: Factors(2, base=(1, 1)), lambda: Factors.read(line="1")):
+            with self.assertRaises(TypeError):
+                call()
+
+
+class Sequences(unittest.TestCase):
+    """[2]: lists and tuples are taken, tuples are returned."""
+
+    def test_lists_and_tuples(self):
+        self.assertEqual(Lattice(2, [(4, 6), (6, 9)]), Lattice(2, ((4, 6), (6, 9))))
+        self.assertEqual(Factors(2, (1, 1), [(4, 6)]), Factors(2, (1, 1), ((4, 6),)))
+        self.assertEqual(Factors.solving(2, [(2, 3)], (7,)), Factors.solving(2, ((2, 3),), [7]))
+
+    def test_tuples_are_returned(self):
+        some, factors = Lattice(2, [(3, 1), (0, 4)]), Factors.solving(2, [(2, 3)], [7])
+        for value in (some.basis, some.basis[0], some.reduced((5, 5)), factors.point, factors.basis, factors.basis[0],
+                      Factors(2).basis, Factors.every(2).point, Factors.read("1 2 + 3 4").point):
+            self.assertIs(type(value), tuple)
+
+
+class Steady(unittest.TestCase):
+    """[2]: the same call gives the same, and objects stay what they are."""
+
+    def test_the_same_call_twice(self):
+        rows = great_rows(3, 4)
+        calls = [
+            lambda: Lattice(4, rows).basis,
+            lambda: Lattice(4, rows).reduced((1, 2, 3, 4)),
+            lambda: Lattice(4, rows).divisor((1, 2, 3, 4)),
+            lambda: str(Lattice(4, rows[:1]) | Lattice(4, rows[1:])),
+            lambda: Lattice(4, rows[:1]) < Lattice(4, rows),
+            lambda: str(Factors(4, (1, 1, 1, 1), rows)),
+            lambda: str(Factors.every(4)),
+            lambda: str(Factors.solving(4, rows, [row[0] for row in rows])),
+            lambda: str(Factors(4, rows[0], rows[1:]) & Factors.every(4)),
+            lambda: Factors.read("7 1 + 4 6").point,
+        ]
+        first = [call() for call in calls]
+        self.assertEqual([call() for call in calls[::-1]], first[::-1])
+        self.assertEqual([call() for call in calls], first)
+
+    def test_an_error_leaves_no_trace(self):
+        some, factors = Lattice(2, [(2, 1)]), Factors(2, (1, 1), [(2, 1)])
+        for call in (lambda: Lattice(2, [(1, True)]), lambda: Factors(2, (1, 1), [(1,)]), lambda: Factors.every(0)):
+            with self.assertRaises(InvalidVector):
+                call()
+        self.assertEqual((str(some), str(factors)), ("2 1", "1 1 + 2 1"))
+
+    def test_objects_stay(self):
+        some, other = Lattice(2, [(4, 0)]), Lattice(2, [(6, 0), (0, 5)])
+        p, q = Factors(2, (1, 0), [(4, 0), (0, 1)]), Factors(2, (3, 2), [(6, 0), (0, 1)])
+        before = [str(some), str(other), str(p), str(q)]
+        for _ in range(2):
+            self.assertEqual(str(some | other), "2 0 | 0 5")
+            self.assertEqual(str(p & q), "9 0 + 12 0 + 0 1")
+            self.assertEqual((some <= other, p <= q, (4, 0) in some, (9, 9) in p), (False, False, True, True))
+            self.assertEqual((some.reduced((9, 9)), some.divisor((2, 2)), some.rank, p.size), ((1, 9), 8, 1, None))
+        self.assertEqual([str(some), str(other), str(p), str(q)], before)
+
+    def test_no_class_is_equal_to_another_one(self):
+        self.assertIs(Lattice(1, [(1,)]) == Factors.every(1), False)
+        self.assertIs(Factors.every(1) == Lattice(1, [(1,)]), False)
+
+
+class Limits(unittest.TestCase):
+    """[3]: no error within the limits, nor somewhat beyond them."""
+
+    def test_somewhat_beyond(self):
+        rows = [tuple(7 * number for number in row) for row in great_rows(15, 14)]
+        some = Lattice(14, rows)
+        self.assertEqual(some.rank, 14)
+        vector = tuple(10 ** 40 + at for at in range(14))
+        self.assertIn(tuple(a - b for a, b in zip(vector, some.reduced(vector))), some)
+        self.assertEqual(Factors.solving(14, rows[:14], [sum(row) for row in rows[:14]]).point, (1,) * 14)
+
+    def test_what_was_returned_is_taken(self):
+        some = Factors(12, great_rows(1, 12, 4)[0], great_rows(11, 12))
+        self.assertEqual(Factors(12, some.point, some.basis), some)
+        self.assertEqual(Lattice(12, some.basis).basis, some.basis)
+        solved = Factors.solving(12, some.basis, [0] * 11)
+        self.assertEqual(len(solved.basis), 1)
+        self.assertEqual([sum(a * b for a, b in zip(solved.basis[0], row)) for row in some.basis], [0] * 11)
+
+
+if __name__ == "__main__":
+    unittest.main()
