@@ -1,4 +1,6 @@
-"""What the other modules share: integers, vectors, and the numbers of texts."""
+"""What the other modules share: integers, names, vectors, and the numbers of texts."""
+
+NO_NAMES = ("none", "to", "old", "new", "one", "not")
 
 
 def is_integer(value):
@@ -9,6 +11,18 @@ def is_integer(value):
 def is_sequence(value):
     """Whether a value is a list or a tuple."""
     return isinstance(value, (list, tuple))
+
+
+def is_name(value):
+    """Whether a value is a name."""
+    # Other scripts have lower-case letters, too, and islower takes them.
+    return (isinstance(value, str) and len(value) <= 4 and value.isascii() and value.isalpha() and value.islower()
+            and value not in NO_NAMES)
+
+
+def are_names(value):
+    """Whether a value is a list or tuple of unlike names."""
+    return is_sequence(value) and all([is_name(part) for part in value]) and len(set(value)) == len(value)
 
 
 def is_width(value):

@@ -2,10 +2,14 @@
 
 import unittest
 
+from sumlives.books import Book
 from sumlives.errors import InvalidVector
 from sumlives.lattices import Lattice
+from sumlives.lives import run_life
+from sumlives.parts import Event, Handler, Worth
+from sumlives.rows import Add, If, Mark, Moved, NewBelow, Not, OldBelow, Put, Was
 from sumlives.systems import Factors
-from tests.helpers import great_rows
+from tests.helpers import PLAIN, great_rows, package_objects, raised
 
 
 class Names(unittest.TestCase):
@@ -70,6 +74,48 @@ class Steady(unittest.TestCase):
         self.assertEqual([call() for call in calls[::-1]], first[::-1])
         self.assertEqual([call() for call in calls], first)
 
+    def test_the_same_call_on_books_and_lives(self):
+        book = Book.read(PLAIN)
+        come, move = ("come", 7, "a"), ("set", 9, None)
+        life = run_life(book, [come, move])
+        calls = [
+            lambda: str(Book.read(PLAIN)),
+            lambda: raised(Book.read, PLAIN + "\nend"),
+            lambda: (len(book), book.factors, book.cuts, str(book[0])),
+            lambda: (raised(lambda: book[-1]), raised(lambda: book[4])),
+            lambda: [book.worth("sum", "open", amount) for amount in (-1, 0, 10 ** 9)],
+            lambda: raised(book.worth, "all", "open", 1),
+            lambda: str(book.with_factors([5, 6, 7, 8])),
+            lambda: raised(book.with_factors, [5, 6, 7]),
+            lambda: str(book.barring(["set"])),
+            lambda: raised(book.barring, ["set", "x"]),
+            lambda: vars(run_life(book, [come])),
+            lambda: raised(run_life, book, [come, come]),
+            lambda: [(life.kind, life.amount, life.group, life.notes, life.noted, life.groups, life.at_rest)],
+            lambda: [(life.sums(group), life.off("sum", group), life.kept("sum", group)) for group in ("a", "b")],
+            lambda: run_life(book, [come, move]) == life,
+            lambda: [str(made) for made in package_objects()[:10]],
+        ]
+        first = [call() for call in calls]
+        self.assertEqual([call() for call in calls[::-1]], first[::-1])
+        self.assertEqual([call() for call in calls[1::2] + calls[::2]], first[1::2] + first[::2])
+
+    def test_arguments_stay(self):
+        rows, others, origins = [Put("n", "old")], [Mark("old")], ["open", "paid"]
+        block = [If(Moved(), rows, others)]
+        parts = [["open", "paid"], ["way"], ["sum"], ["n"], [Worth("sum", "open", 1, "one")],
+                 [Event("set", origins, "way")], [Handler("set", block)]]
+        deeds, factors, names = [("set", None, None)], [], ["set"]
+        book = Book(*parts)
+        raised(run_life, book, deeds)
+        raised(book.barring, names)
+        book.with_factors(factors)
+        self.assertEqual((rows, others, origins), ([Put("n", "old")], [Mark("old")], ["open", "paid"]))
+        self.assertEqual(block, [If(Moved(), [Put("n", "old")], [Mark("old")])])
+        self.assertEqual(parts, [["open", "paid"], ["way"], ["sum"], ["n"], [Worth("sum", "open", 1, "one")],
+                                 [Event("set", ["open", "paid"], "way")], [Handler("set", block)]])
+        self.assertEqual((deeds, factors, names), ([("set", None, None)], [], ["set"]))
+
     def test_an_error_leaves_no_trace(self):
         some, factors = Lattice(2, [(2, 1)]), Factors(2, (1, 1), [(2, 1)])
         for call in (lambda: Lattice(2, [(1, True)]), lambda: Factors(2, (1, 1), [(1,)]), lambda: Factors.every(0)):
@@ -103,6 +149,41 @@ class Limits(unittest.TestCase):
         vector = tuple(10 ** 40 + at for at in range(14))
         self.assertIn(tuple(a - b for a, b in zip(vector, some.reduced(vector))), some)
         self.assertEqual(Factors.solving(14, rows[:14], [sum(row) for row in rows[:14]]).point, (1,) * 14)
+
+    def test_books_and_lives_somewhat_beyond(self):
+        test = Was("none")
+        for _ in range(30):
+            test = Not(test)
+        block = [Add(10 ** 12, "n", "s", "new")]
+        for number in range(8):
+            block = [Add(number, "new", "t", "old"), If(Not(OldBelow(10 ** number)), block, [If(test, block[:1])])]
+        kinds = ["a", "b", "c", "d", "e", "f"]
+        events = [Event("come", ["none"], "a", True, True), Event("set", kinds, "f", True, True)]
+        events += [Event("x" + kind, kinds, kind) for kind in kinds]
+        worths = [Worth("s", kind, 10 ** 10, "amount", 10 ** 10 + at) for at, kind in enumerate(kinds[:4] * 3)]
+        book = Book(kinds[:4], kinds[4:], ["s", "t", "u"], ["n", "m", "k"], worths, events,
+                    [Handler(event.name, block) for event in events])
+        self.assertEqual(len(book), 8 * (9 + 8))
+        self.assertEqual(book.with_factors(book.factors), book)
+        self.assertEqual(len(book.cuts), 8 + 12)
+        deeds = [("come", 10 ** 15, "a")] + [("set", -10 ** 15, "bc")] * 40 + [("xa", None, None)] * 40
+        life = run_life(book, deeds)
+        self.assertEqual((life.kind, life.amount, life.groups), ("a", -10 ** 15, ("a", "bc")))
+        small = book.barring(["xb", "xc", "xd", "xe", "xf"])
+        self.assertEqual(run_life(small, deeds).off("t", "bc"), life.off("t", "bc"))
+
+    def test_books_at_their_limits(self):
+        inner = NewBelow(999999)
+        for _ in range(8):
+            inner = Not(inner)
+        rows = [Add(999, "old", "s", "noted"), If(inner, [If(Moved(), [If(inner, [Put("n", "m")])])])]
+        events = [Event("come", ["none"], "a", True, True), *[Event(name, ["a", "b"], "b", True) for name in "vwxyz"]]
+        book = Book(["a", "b"], ["c", "d"], ["s", "t"], ["n", "m"],
+                    [Worth("s", "a", 999, "amount", at) for at in range(6)], events,
+                    [Handler(event.name, rows + rows[:1]) for event in events])
+        self.assertEqual((len(book), Book.read(str(book))), (12, book))
+        deeds = [("come", 999999999, "a"), *[("z", -999999999, None)] * 29]
+        self.assertEqual(run_life(book, deeds).amount, -999999999)
 
     def test_what_was_returned_is_taken(self):
         some = Factors(12, great_rows(1, 12, 4)[0], great_rows(11, 12))

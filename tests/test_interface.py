@@ -4,7 +4,12 @@ import importlib
 import inspect
 import unittest
 
+from sumlives.lattices import Lattice
+from sumlives.systems import Factors
+from tests.helpers import package_objects
+
 ORDER = ["__le__", "__lt__", "__ge__", "__gt__"]
+TOLD = {"__eq__": "(self, other)", "__str__": "(self)"}
 
 # For each module its classes and functions with their arguments, and what is listed for a class.
 INTERFACE = {
@@ -32,6 +37,46 @@ INTERFACE = {
             "__contains__": "(self, x)", "__bool__": "(self)", "__str__": "(self)",
         }),
     },
+    "rows": {
+        "Row": ("()", {}),
+        "Test": ("()", {}),
+        "Add": ("(factor, what, total, place)", TOLD),
+        "Put": ("(note, what)", TOLD),
+        "Mark": ("(place)", TOLD),
+        "If": ("(test, rows, others=())", TOLD),
+        "Was": ("(kind)", TOLD),
+        "OldBelow": ("(number)", TOLD),
+        "NewBelow": ("(number)", TOLD),
+        "Moved": ("()", TOLD),
+        "Noted": ("()", TOLD),
+        "Not": ("(test)", TOLD),
+    },
+    "parts": {
+        "Event": ("(name, origins, kind, amount=False, group=False)", TOLD),
+        "Worth": ("(total, kind, factor, what, least=None, below=None)", TOLD),
+        "Handler": ("(event, rows=())", TOLD),
+    },
+    "books": {
+        "Book": ("(rests, passes, totals, notes, worths, events, handlers)", {
+            "worth": "(self, total, kind, amount)", "with_factors": "(self, factors)", "barring": "(self, names)",
+            "read": "(text)", "__len__": "(self)", "__getitem__": "(self, at)", **TOLD,
+        }),
+    },
+    "lives": {
+        "run_life": ("(book, deeds)", {}),
+        "Life": (None, {
+            "at_rest": None, "sums": "(self, group)", "__eq__": "(self, other)",
+            **dict.fromkeys(["kept", "worth", "off"], "(self, total, group)"),
+        }),
+    },
+}
+
+ATTRIBUTES = {
+    "Lattice": "width basis", "Factors": "width point basis", "Add": "factor what total place", "Put": "note what",
+    "Mark": "place", "If": "test rows others", "Was": "kind", "Moved": "", "Not": "test",
+    "Event": "name origins kind amount group", "Worth": "total kind factor what least below", "Handler": "event rows",
+    "Book": "rests passes totals notes worths events handlers cuts factors",
+    "Life": "kind amount group notes noted groups",
 }
 
 
@@ -48,7 +93,9 @@ class Interface(unittest.TestCase):
             found = importlib.import_module("sumlives." + module)
             for name, (arguments, _) in names.items():
                 with self.subTest(module=module, name=name):
-                    self.assertEqual(str(inspect.signature(getattr(found, name))), arguments)
+                    # None tells that only the package itself makes objects of this class.
+                    if arguments is not None:
+                        self.assertEqual(str(inspect.signature(getattr(found, name))), arguments)
 
     def test_methods_stand_in_their_class(self):
         for module, names in INTERFACE.items():
@@ -64,11 +111,12 @@ class Interface(unittest.TestCase):
                             self.assertEqual(str(inspect.signature(value)), arguments)
 
     def test_attributes_are_set_when_an_object_is_made(self):
-        from sumlives.lattices import Lattice
-        from sumlives.systems import Factors
-
         self.assertEqual(vars(Lattice(2)), {"width": 2, "basis": ()})
         self.assertEqual(vars(Factors(2)), {"width": 2, "point": None, "basis": ()})
+        for made in package_objects():
+            for name in ATTRIBUTES[type(made).__name__].split():
+                with self.subTest(made=type(made), name=name):
+                    self.assertIn(name, vars(made))
 
     def test_the_package_itself_is_empty(self):
         import sumlives

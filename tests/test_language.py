@@ -45,6 +45,12 @@ def bound(tree):
     return found
 
 
+def made_by(tree):
+    """The functions, classes and values that stand at the top of a file."""
+    values = [target.id for node in tree.body if isinstance(node, ast.Assign) for target in node.targets]
+    return {node.name for node in tree.body if hasattr(node, "name")} | set(values)
+
+
 class Language(unittest.TestCase):
     def test_the_folder_holds_its_files_only(self):
         others = [path.name for path in FOLDER.iterdir() if path.name != "__pycache__" and path.suffix != ".py"]
@@ -71,8 +77,7 @@ class Language(unittest.TestCase):
                 self.assertLessEqual({alias.name for alias in node.names}, LIBRARY[node.module], (name, node.lineno))
 
     def test_imports_name_the_file_that_defines(self):
-        made = {"sumlives." + name[:-3]: {node.name for node in tree.body if hasattr(node, "name")}
-                for name, tree in trees()}
+        made = {"sumlives." + name[:-3]: made_by(tree) for name, tree in trees()}
         for name, node in nodes(ast.ImportFrom):
             if node.module in made:
                 self.assertLessEqual({alias.name for alias in node.names}, made[node.module], (name, node.lineno))
