@@ -150,10 +150,15 @@ class Book:
     def worth(self, total, kind, amount):
         """What a record of this kind and amount is worth in a total."""
         self.check_total(total)
+        worth = self.worth_told(total, kind, amount)
+        return 0 if worth is None else worth.of(amount)
+
+    def worth_told(self, total, kind, amount):
+        """The worth that counts for a record of this kind and amount in a total, or None."""
         for worth in self.worths:
             if worth.total == total and worth.kind == kind and worth.fits(amount):
-                return worth.of(amount)
-        return 0
+                return worth
+        return None
 
     def event_named(self, name):
         """The event of this name, or None."""

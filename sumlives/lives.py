@@ -44,18 +44,12 @@ class Happening:
             self.new_amount = 0
         self.new_group = group if event.group else record.group
         self.old_group = self.new_group if record.kind == "none" else record.group
-        self.notes = dict(zip(book.notes, record.notes))
         self.noted = record.noted
+        notes = dict(zip(book.notes, record.notes))
+        # What the words of rows tell, and the notes beside it: no note is called like one of these words.
+        self.figures = {"old": self.old_amount, "new": self.new_amount, "one": 1, **notes}
         # What statements have added: their number, the group, and what was told, without the factor.
         self.told = []
-
-    def amount_of(self, what):
-        """What is told by a word or a note."""
-        if what == "old":
-            return self.old_amount
-        if what == "new":
-            return self.new_amount
-        return 1 if what == "one" else self.notes[what]
 
     def group_at(self, place):
         """The group at a place, or None if there is none."""
@@ -91,7 +85,7 @@ class Happening:
                     self.tell(row, number)
                 number += 1
             elif done and isinstance(row, Put):
-                self.notes[row.note] = self.amount_of(row.what)
+                self.figures[row.note] = self.figures[row.what]
             elif done:
                 self.noted = self.group_at(row.place)
         return number
@@ -100,7 +94,7 @@ class Happening:
         """Does a statement."""
         group = self.group_at(row.place)
         if group is not None:
-            self.told.append((number, group, self.amount_of(row.what)))
+            self.told.append((number, group, self.figures[row.what]))
 
 
 def after(book, record, name, amount, group):
@@ -111,7 +105,7 @@ def after(book, record, name, amount, group):
     happening.follow(rows, number, True)
     if event.kind == "none":
         return gone(book), happening.told
-    notes = tuple([happening.notes[note] for note in book.notes])
+    notes = tuple([happening.figures[note] for note in book.notes])
     return Record(event.kind, happening.new_amount, happening.new_group, notes, happening.noted), happening.told
 
 

@@ -3,13 +3,18 @@
 import unittest
 
 from sumlives.books import Book
+from sumlives.deciding import divisor, is_right, right_factors, wrong_life
 from sumlives.errors import InvalidVector
 from sumlives.lattices import Lattice
 from sumlives.lives import run_life
+from sumlives.mending import blamed, idle, least_enough, least_mends, mended
 from sumlives.parts import Event, Handler, Worth
 from sumlives.rows import Add, If, Mark, Moved, NewBelow, Not, OldBelow, Put, Was
+from sumlives.standings import spanned, standings
 from sumlives.systems import Factors
+from tests.drawn import drawn_book
 from tests.helpers import PLAIN, great_rows, package_objects, raised
+from tests.texts import GREAT, HOPELESS, LESS, RIGHT, SUM, WRONG, book_of
 
 
 class Names(unittest.TestCase):
@@ -32,8 +37,25 @@ class Names(unittest.TestCase):
         self.assertEqual(Factors.solving(rights=[7], forms=[(2, 3)], width=2), Factors.solving(2, [(2, 3)], [7]))
         self.assertEqual(Factors.read(text="5 1 + 2 1"), some)
 
+    def test_standings(self):
+        book, standing = RIGHT["sets and goes"], ("open", 0, True, "none")
+        self.assertEqual(standings(book=book), standings(book))
+        self.assertEqual(spanned(standing=standing, book=book), spanned(book, standing))
+        self.assertEqual(spanned(book, standing=standing), spanned(book=book, standing=standing))
+
+    def test_deciding_and_mending(self):
+        book = WRONG["an older amount"][0]
+        for call in (right_factors, is_right, wrong_life, least_mends, least_enough, blamed, idle):
+            self.assertEqual(call(book=book), call(book))
+        self.assertEqual(divisor(total="sum", book=book), divisor(book, "sum"))
+        self.assertEqual(divisor(book, total="sum"), 1)
+        self.assertEqual(mended(numbers=[0], book=RIGHT["moves"]), mended(RIGHT["moves"], [0]))
+        self.assertEqual(mended(RIGHT["moves"], numbers=()), RIGHT["moves"])
+
     def test_other_names_are_none(self):
-        for call in (lambda: Lattice(2, vectors=()), lambda: Factors(2, base=(1, 1)), lambda: Factors.read(line="1")):
+        book = RIGHT["moves"]
+        for call in (lambda: Lattice(2, vectors=()), lambda: Factors(2, base=(1, 1)), lambda: Factors.read(line="1"),
+                     lambda: standings(other=book), lambda: divisor(book, name="sum"), lambda: mended(book, some=())):
             with self.assertRaises(TypeError):
                 call()
 
@@ -50,6 +72,15 @@ class Sequences(unittest.TestCase):
         some, factors = Lattice(2, [(3, 1), (0, 4)]), Factors.solving(2, [(2, 3)], [7])
         for value in (some.basis, some.basis[0], some.reduced((5, 5)), factors.point, factors.basis, factors.basis[0],
                       Factors(2).basis, Factors.every(2).point, Factors.read("1 2 + 3 4").point):
+            self.assertIs(type(value), tuple)
+
+    def test_tuples_are_returned_by_what_decides(self):
+        book, never = WRONG["twice as much"][0], RIGHT["never comes"]
+        for value in (standings(book), standings(book)[0], standings(never), least_mends(book), least_mends(book)[0],
+                      least_mends(RIGHT["moves"])[0], least_mends(HOPELESS["a half"]), least_enough(book),
+                      least_enough(book)[0], blamed(book), blamed(RIGHT["moves"])[0],
+                      blamed(WRONG["an older amount"][0])[0], idle(book), idle(never), *wrong_life(book)[:1],
+                      wrong_life(book), wrong_life(book)[0][0]):
             self.assertIs(type(value), tuple)
 
 
@@ -99,6 +130,26 @@ class Steady(unittest.TestCase):
         first = [call() for call in calls]
         self.assertEqual([call() for call in calls[::-1]], first[::-1])
         self.assertEqual([call() for call in calls[1::2] + calls[::2]], first[1::2] + first[::2])
+
+    def test_the_same_call_of_what_decides(self):
+        book, wrong, hopeless = RIGHT["a note and a mark"], WRONG["a group that was left"][0], HOPELESS["a third"]
+        bare = book_of(SUM)
+        calls = [lambda call=call, some=some: raised(call, some) or str(call(some))
+                 for call in (standings, right_factors, is_right, wrong_life, least_mends, least_enough, blamed, idle)
+                 for some in (book, wrong, hopeless, bare)]
+        calls += [
+            lambda: [str(spanned(book, standing)) for standing in standings(book)],
+            lambda: raised(spanned, book, ("open", 0, True, "seen")),
+            lambda: (divisor(book, "sum"), divisor(wrong, "sum"), divisor(hopeless, "sum")),
+            lambda: (raised(divisor, book, "all"), raised(divisor, bare, "all")),
+            lambda: [mended(some, numbers) is None for some in (book, wrong, hopeless) for numbers in ([], [0])],
+            lambda: str(mended(wrong, [0])),
+            lambda: (raised(mended, book, [-1, 9]), raised(mended, bare, [-1])),
+        ]
+        first = [call() for call in calls]
+        self.assertEqual([call() for call in calls[::-1]], first[::-1])
+        self.assertEqual([call() for call in calls[1::2] + calls[::2]], first[1::2] + first[::2])
+        self.assertEqual(str(book), str(RIGHT["a note and a mark"]))
 
     def test_arguments_stay(self):
         rows, others, origins = [Put("n", "old")], [Mark("old")], ["open", "paid"]
@@ -184,6 +235,46 @@ class Limits(unittest.TestCase):
         self.assertEqual((len(book), Book.read(str(book))), (12, book))
         deeds = [("come", 999999999, "a"), *[("z", -999999999, None)] * 29]
         self.assertEqual(run_life(book, deeds).amount, -999999999)
+
+    def test_what_is_decided_at_the_limits(self):
+        self.assertEqual((len(GREAT.rests + GREAT.passes), len(GREAT.events), len(GREAT.notes), len(GREAT.cuts), len(GREAT)),
+                         (3, 5, 1, 2, 8))
+        self.assertEqual(len(standings(GREAT)), 19)
+        self.assertEqual([spanned(GREAT, standing).width for standing in standings(GREAT)], [11] * 19)
+        self.assertIs(is_right(GREAT), True)
+        self.assertIn(GREAT.factors, right_factors(GREAT))
+        self.assertEqual((divisor(GREAT, "s"), wrong_life(GREAT)), (0, None))
+        wrong = GREAT.with_factors((-1, 1, 0, -1, 1, 7, -1, -1))
+        self.assertEqual((is_right(wrong), divisor(wrong, "s"), len(wrong_life(wrong)[0])), (False, 7, 2))
+
+    def test_what_is_mended_at_the_limits(self):
+        self.assertEqual(blamed(LESS), ((),))
+        self.assertEqual(least_mends(LESS.with_factors((-1, 1, 5, 4, -1))), ((2, 3),))
+        for seed in range(3):
+            book = drawn_book(seed, 3, 4, 1, 2, 6, 15, 2)
+            for call in (least_mends, least_enough, blamed, idle):
+                self.assertIs(type(call(book)), tuple)
+            if least_mends(book):
+                self.assertIs(is_right(mended(book, list(range(len(book))))), True)
+
+    def test_drawn_books_at_the_limits(self):
+        for seed in range(4):
+            book = drawn_book(seed, 3, 5, 1, 2, 8, 16, 2, (-999, 999, 7), (999998, 999999, -999999, -999998))
+            told = standings(book)
+            self.assertEqual(spanned(book, told[-1]).width, 11)
+            right = right_factors(book)
+            self.assertIs(is_right(book), book.factors in right)
+            if right:
+                self.assertIs(is_right(book.with_factors(right.point)), True)
+
+    def test_what_is_decided_somewhat_beyond(self):
+        book = drawn_book(1, 3, 6, 2, 3, 10, 20, 2, (-10 ** 6, 10 ** 6), (10 ** 9, -10 ** 9, 10 ** 9 + 1, 0))
+        self.assertEqual(spanned(book, standings(book)[0]).width, 14)
+        self.assertIs(is_right(book), False)
+        life = run_life(book, wrong_life(book)[0])
+        self.assertIn(True, [life.off(total, "a") != 0 for total in book.totals])
+        self.assertGreater(max(divisor(book, total) for total in book.totals), 0)
+        self.assertEqual(len(idle(book)), len(set(idle(book))))
 
     def test_what_was_returned_is_taken(self):
         some = Factors(12, great_rows(1, 12, 4)[0], great_rows(11, 12))

@@ -3,8 +3,11 @@
 import unittest
 
 from sumlives.books import Book
+from sumlives.deciding import divisor, is_right, right_factors, wrong_life
 from sumlives.lattices import Lattice
 from sumlives.lives import run_life
+from sumlives.mending import blamed, least_mends, mended
+from sumlives.standings import spanned, standings
 from sumlives.systems import Factors
 from tests.helpers import raised
 
@@ -16,6 +19,30 @@ class Examples(unittest.TestCase):
             (str(some), some.rank, some.divisor((1, 1)), str(Factors.solving(2, [(2, 3)], [7])),
              (-1, 3) in Factors.read('2 1 + 3 -2')),
             ('2 3', 1, 5, '2 1 + 3 -2', True))
+
+    LINES = ['rest open', 'total sum', 'worth sum open 1 amount', 'event come none to open amount group']
+    MORE = ['event set open to open amount', 'event go open to none', 'on come', 'add 1 new sum new', 'on set',
+            'add 1 new sum new']
+
+    def test_deciding(self):
+        twice = Book.read('\n'.join(self.LINES + self.MORE + ['add 1 old sum new', 'on go', 'add -1 old sum old']))
+        self.assertEqual(
+            (is_right(twice), str(right_factors(twice)), divisor(twice, 'sum'), len(wrong_life(twice)[0])),
+            (False, '1 1 -1 -1', 2, 2))
+
+    def test_mending(self):
+        twice = Book.read('\n'.join(self.LINES + self.MORE + ['add 1 old sum new', 'on go', 'add -1 old sum old']))
+        never = Book.read('\n'.join(self.LINES + self.MORE + ['on go', 'add -1 old sum old']))
+        self.assertEqual(
+            (least_mends(twice), mended(twice, [2]).factors, least_mends(never), blamed(never)),
+            (((2,),), (1, 1, -1, -1), (), (('come',), ('set',))))
+
+    def test_standings(self):
+        book = Book.read('\n'.join(
+            self.LINES + ['event go open to none', 'on come', 'add 1 new sum new', 'on go', 'add -1 old sum old']))
+        self.assertEqual(
+            standings(book), (('none', 0, False, 'none'), ('open', 0, False, 'none'), ('open', 0, True, 'none')))
+        self.assertEqual(str(spanned(book, ('open', 0, True, 'none'))), '1 0 0 0 | 0 1 0 -1 | 0 0 1 1')
 
     def test_a_life(self):
         lines = ['rest open', 'total sum', 'note n', 'worth sum open 2 amount below 10', 'worth sum open 1 one']

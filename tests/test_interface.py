@@ -69,6 +69,15 @@ INTERFACE = {
             **dict.fromkeys(["kept", "worth", "off"], "(self, total, group)"),
         }),
     },
+    "standings": {"standings": ("(book)", {}), "spanned": ("(book, standing)", {})},
+    "deciding": {
+        **dict.fromkeys(["right_factors", "is_right", "wrong_life"], ("(book)", {})),
+        "divisor": ("(book, total)", {}),
+    },
+    "mending": {
+        **dict.fromkeys(["least_mends", "least_enough", "blamed", "idle"], ("(book)", {})),
+        "mended": ("(book, numbers)", {}),
+    },
 }
 
 ATTRIBUTES = {
