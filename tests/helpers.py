@@ -1,11 +1,13 @@
 """What the tests share: values that are wrong, errors, great vectors, sums of vectors, books, and tests of orders."""
 
 from sumlives.books import Book
+from sumlives.desk import Desk
 from sumlives.errors import SumError
 from sumlives.lattices import Lattice
 from sumlives.lives import run_life
 from sumlives.parts import Event, Handler, Worth
 from sumlives.rows import Add, If, Mark, Moved, Not, Put, Was
+from sumlives.store import Store
 from sumlives.systems import Factors
 
 NO_INTEGERS = [None, True, False, "", "1", "one", (), (1,), [1], []]
@@ -27,7 +29,7 @@ def package_objects():
     rows = [Add(1, "one", "sum", "new"), Put("n", "old"), Mark("old"), If(Moved(), ())]
     parts = [Event("come", ["none"], "open", True, True), Worth("sum", "open", 1, "one"), Handler("come")]
     return [*rows, Was("open"), Moved(), Not(Moved()), *parts, book, run_life(book, ()), Lattice(1, [(2,)]),
-            Factors.every(1), Factors(1)]
+            Factors.every(1), Factors(1), Store(book), Desk()]
 
 
 def but(values, *others):

@@ -78,6 +78,20 @@ INTERFACE = {
         **dict.fromkeys(["least_mends", "least_enough", "blamed", "idle"], ("(book)", {})),
         "mended": ("(book, numbers)", {}),
     },
+    "alike": dict.fromkeys(["alike", "always_alike", "parting"], ("(p, q)", {})),
+    "papers": {
+        **dict.fromkeys(["paper", "weights"], ("(book)", {})),
+        **dict.fromkeys(["paper_holds", "weights_hold"], ("(book, value)", {})),
+    },
+    "store": {
+        "Store": ("(book)", {
+            "do": "(self, key, event, amount=None, group=None)", "several": "(self, deeds)", "within": "(self, work)",
+            **dict.fromkeys(["kept", "anew", "off"], "(self, total, group)"),
+            **dict.fromkeys(["recount", "undo", "trial", "__len__"], "(self)"),
+            "names": None, "at_rest": None, "__getitem__": "(self, at)", "__contains__": "(self, x)",
+        }),
+    },
+    "desk": {"Desk": ("()", {"say": "(self, command)", "__len__": "(self)"})},
 }
 
 ATTRIBUTES = {
@@ -85,7 +99,7 @@ ATTRIBUTES = {
     "Mark": "place", "If": "test rows others", "Was": "kind", "Moved": "", "Not": "test",
     "Event": "name origins kind amount group", "Worth": "total kind factor what least below", "Handler": "event rows",
     "Book": "rests passes totals notes worths events handlers cuts factors",
-    "Life": "kind amount group notes noted groups",
+    "Life": "kind amount group notes noted groups", "Store": "", "Desk": "",
 }
 
 
