@@ -8,10 +8,10 @@ from sumlives.lives import after, gone, wrong_part
 class Contents:
     """What a store holds between two deeds. It does not change, so that a store can go back to it."""
 
-    def __init__(self, records, sums):
+    def __init__(self, records, tallies):
         # The records that are there, by their keys, and what is kept, by total and group.
         self.records = records
-        self.sums = sums
+        self.tallies = tallies
 
 
 def done(book, contents, key, event, amount, group):
@@ -26,12 +26,12 @@ def done(book, contents, key, event, amount, group):
     records = {name: contents.records[name] for name in contents.records if name != key}
     if behind.kind != "none":
         records[key] = behind
-    sums = {place: contents.sums[place] for place in contents.sums}
+    tallies = {place: contents.tallies[place] for place in contents.tallies}
     for number, where, figure in told:
         row = book[number]
         place = (row.total, where)
-        sums[place] = sums.get(place, 0) + row.factor * figure
-    return Contents(records, sums), behind.kind
+        tallies[place] = tallies.get(place, 0) + row.factor * figure
+    return Contents(records, tallies), behind.kind
 
 
 class Trial:
@@ -95,7 +95,7 @@ class Store:
     def kept(self, total, group):
         """What the handlers have made of this total of this group."""
         self.book.check_total(total)
-        return self.contents.sums.get((total, group), 0)
+        return self.contents.tallies.get((total, group), 0)
 
     def anew(self, total, group):
         """What the records of this group are worth in this total."""
@@ -109,7 +109,7 @@ class Store:
 
     def told_groups(self):
         """The groups of which something is kept, or which have a record, each once."""
-        told = [group for _, group in self.contents.sums]
+        told = [group for _, group in self.contents.tallies]
         return sorted(set(told + [record.group for record in self.contents.records.values()]))
 
     def recount(self):

@@ -1,19 +1,25 @@
 """[1], [2], [3]: what holds for all functions and classes."""
 
+import copy
 import unittest
 
+from sumlives.alike import alike, always_alike, parting
 from sumlives.books import Book
 from sumlives.deciding import divisor, is_right, right_factors, wrong_life
+from sumlives.desk import Desk
 from sumlives.errors import InvalidVector
 from sumlives.lattices import Lattice
 from sumlives.lives import run_life
 from sumlives.mending import blamed, idle, least_enough, least_mends, mended
+from sumlives.papers import paper, paper_holds, weights, weights_hold
 from sumlives.parts import Event, Handler, Worth
 from sumlives.rows import Add, If, Mark, Moved, NewBelow, Not, OldBelow, Put, Was
 from sumlives.standings import spanned, standings
+from sumlives.store import Store
 from sumlives.systems import Factors
 from tests.drawn import drawn_book
 from tests.helpers import PLAIN, great_rows, package_objects, raised
+from tests.tables import weights_are_right
 from tests.texts import GREAT, HOPELESS, LESS, RIGHT, SUM, WRONG, book_of
 
 
@@ -52,10 +58,36 @@ class Names(unittest.TestCase):
         self.assertEqual(mended(numbers=[0], book=RIGHT["moves"]), mended(RIGHT["moves"], [0]))
         self.assertEqual(mended(RIGHT["moves"], numbers=()), RIGHT["moves"])
 
+    def test_alike_and_papers(self):
+        book, other = Book.read(PLAIN), Book.read(PLAIN).with_factors((1, 2, -2, -1))
+        for call in (alike, always_alike):
+            self.assertEqual((call(q=other, p=book), call(book, q=other), call(q=book, p=book)), (False, False, True))
+        self.assertEqual((parting(q=other, p=book), parting(q=book, p=book)), (parting(book, other), None))
+        hopeless = HOPELESS["a half"]
+        for call, check, some in ((paper, paper_holds, book), (weights, weights_hold, hopeless)):
+            told = call(book=some)
+            self.assertEqual(told, call(some))
+            self.assertEqual((check(value=told, book=some), check(some, value=told), check(value=(), book=some)),
+                             (True, True, False))
+
+    def test_store(self):
+        store = Store(book=Book.read(PLAIN))
+        self.assertEqual(store.do(group="a", amount=5, event="come", key="x"), "open")
+        self.assertEqual(store.do("x", amount=7, event="set"), "open")
+        self.assertEqual(store.several(deeds=[("y", "come", 1, "b")]), ("open",))
+        self.assertEqual((store.kept(group="a", total="sum"), store.anew(group="b", total="sum"),
+                          store.off(group="a", total="sum")), (7, 1, 0))
+        self.assertEqual((store.within(work=lambda inner: inner.do("x", "go")), len(store)), ("none", 3))
+
+    def test_desk(self):
+        self.assertEqual(Desk().say(command="book " + PLAIN.replace("\n", " ; ")), "4 statements")
+
     def test_other_names_are_none(self):
         book = RIGHT["moves"]
         for call in (lambda: Lattice(2, vectors=()), lambda: Factors(2, base=(1, 1)), lambda: Factors.read(line="1"),
-                     lambda: standings(other=book), lambda: divisor(book, name="sum"), lambda: mended(book, some=())):
+                     lambda: standings(other=book), lambda: divisor(book, name="sum"), lambda: mended(book, some=()),
+                     lambda: alike(p=book, other=book), lambda: paper_holds(book, table=()), lambda: Store(other=book),
+                     lambda: Store(book).do("x", "come", amount=5, to="a"), lambda: Desk().say(text="undo")):
             with self.assertRaises(TypeError):
                 call()
 
@@ -73,6 +105,20 @@ class Sequences(unittest.TestCase):
         for value in (some.basis, some.basis[0], some.reduced((5, 5)), factors.point, factors.basis, factors.basis[0],
                       Factors(2).basis, Factors.every(2).point, Factors.read("1 2 + 3 4").point):
             self.assertIs(type(value), tuple)
+
+    def test_tuples_are_returned_by_what_compares_and_shows_and_stores(self):
+        book, hopeless, store = RIGHT["a cut"], HOPELESS["never taken away"], Store(Book.read(PLAIN))
+        told, tables, items = parting(book, book.with_factors((1, 1, -2))), paper(book), weights(hopeless)
+        kinds = store.several([("x", "come", 5, "a"), ("y", "come", 6, "a")])
+        for value in (told, told[0], told[0][0], tables, tables[0], *tables[0], tables[0][1][0], items, items[0], items[0][2],
+                      items[0][2][0], kinds, store.several(()), store["x"], store.names, Store(book).names):
+            self.assertIs(type(value), tuple)
+
+    def test_deeds_in_lists_and_tuples(self):
+        deeds = [("x", "come", 5, "a"), ("x", "set", 6, None)]
+        stores = [Store(Book.read(PLAIN)) for _ in range(2)]
+        self.assertEqual(stores[0].several(deeds), stores[1].several(tuple(deeds)))
+        self.assertEqual(stores[0]["x"], stores[1]["x"])
 
     def test_tuples_are_returned_by_what_decides(self):
         book, never = WRONG["twice as much"][0], RIGHT["never comes"]
@@ -150,6 +196,58 @@ class Steady(unittest.TestCase):
         self.assertEqual([call() for call in calls[::-1]], first[::-1])
         self.assertEqual([call() for call in calls[1::2] + calls[::2]], first[1::2] + first[::2])
         self.assertEqual(str(book), str(RIGHT["a note and a mark"]))
+
+    def test_the_same_call_of_what_compares_and_shows(self):
+        book, wrong, hopeless = RIGHT["a note and a mark"], WRONG["a group that was left"][0], HOPELESS["a third"]
+        bare, other = book_of(SUM), WRONG["a group that was left"][0].with_factors((2,))
+        calls = [lambda call=call, p=p, q=q: raised(call, p, q) or str(call(p, q)) for call in (alike, always_alike, parting)
+                 for p, q in ((book, book), (wrong, other), (other, wrong), (book, wrong), (bare, wrong))]
+        calls += [lambda call=call, some=some: raised(call, some) or str(call(some)) for call in (paper, weights)
+                  for some in (book, wrong, hopeless, bare)]
+        calls += [lambda check=check, some=some, told=told: raised(check, some, told) or check(some, told)
+                  for check in (paper_holds, weights_hold) for some in (book, wrong, hopeless, bare)
+                  for told in (paper(book), weights(hopeless), None, ())]
+        first = [call() for call in calls]
+        self.assertEqual([call() for call in calls[::-1]], first[::-1])
+        self.assertEqual([call() for call in calls[1::2] + calls[::2]], first[1::2] + first[::2])
+        self.assertEqual((str(book), str(wrong)), (str(RIGHT["a note and a mark"]), str(WRONG["a group that was left"][0])))
+
+    def test_what_asks_a_store_or_a_desk_changes_nothing(self):
+        store, desk = Store(Book.read(PLAIN)), Desk()
+        desk.say("book " + PLAIN.replace("\n", " ; "))
+        store.several([("x", "come", 5, "a"), ("y", "come", 6, "b")])
+        desk.say("do x come 5 a")
+        calls = [
+            lambda: (store["x"], store.names, "x" in store, "q" in store, store.at_rest, len(store)),
+            lambda: [ask("sum", group) for ask in (store.kept, store.anew, store.off) for group in "abc"],
+            lambda: (raised(store.kept, "all", "a"), raised(lambda: store["q"]), raised(store.do, "x", "come", 5, "a")),
+            lambda: raised(store.several, [("y", "go", None, None), ("x", "come", 5, "a")]),
+            lambda: store.within(lambda inner: (inner.do("x", "go"), inner.recount(), inner.undo(), inner.names)),
+            *[lambda command=command: raised(desk.say, command) or desk.say(command)
+              for command in ("right", "factors", "mends", "enough", "blame", "divisor sum", "kept sum a", "anew sum a",
+                              "divisor all", "kept all a", "do x come 5 a", "book rest", "undo ", "what")],
+            lambda: len(desk),
+        ]
+        first = [call() for call in calls]
+        self.assertEqual([call() for call in calls[::-1]], first[::-1])
+        self.assertEqual([call() for call in calls[1::2] + calls[::2]], first[1::2] + first[::2])
+
+    def test_arguments_of_what_compares_and_shows_and_stores_stay(self):
+        book, hopeless = RIGHT["a cut"], HOPELESS["never taken away"]
+        texts = [str(book), str(hopeless)]
+        deeds = [("x", "come", 5, "a"), ("x", "set", 50, None)]
+        values = [list(paper(book)), list(weights(hopeless)), [["x"], ("come", [5], None)], deeds]
+        copies = copy.deepcopy(values)
+        for value in values:
+            for some in (book, hopeless):
+                self.assertEqual((paper_holds(some, value), weights_hold(some, value)), (False, False))
+        store = Store(book)
+        store.several(deeds)
+        self.assertEqual(values, copies)
+        deeds.clear()
+        self.assertEqual((store["x"], len(store)), (("open", 50, "a"), 1))
+        parting(book, book.with_factors((1, 1, -2)))
+        self.assertEqual([str(book), str(hopeless)], texts)
 
     def test_arguments_stay(self):
         rows, others, origins = [Put("n", "old")], [Mark("old")], ["open", "paid"]
@@ -256,6 +354,50 @@ class Limits(unittest.TestCase):
                 self.assertIs(type(call(book)), tuple)
             if least_mends(book):
                 self.assertIs(is_right(mended(book, list(range(len(book))))), True)
+
+    def test_what_is_shown_at_the_limits(self):
+        told = paper(GREAT)
+        self.assertEqual((paper_holds(GREAT, told), paper_holds(GREAT, told[::-1]), weights(GREAT)), (True, True, None))
+        # More entries than standings can be told apart.
+        self.assertIs(paper_holds(GREAT, (told * 40)[:400]), False)
+        for seed in range(4):
+            book = drawn_book(seed, 3, 5, 1, 2, 8, 16, 2, (-999, 999, 7), (999998, 999999, -999999, -999998))
+            told = weights(book)
+            self.assertIs(told is None, bool(right_factors(book)))
+            if told is not None:
+                self.assertIs(weights_hold(book, told), True)
+                for many in (2, 60 // len(told)):
+                    self.assertIs(weights_hold(book, told * many), weights_are_right(str(book), told * many))
+        deeds = (("come", 999999999, "a"), *[("move", -999999999, "bcde"), ("move", 1, "a")] * 14)
+        self.assertIs(weights_hold(HOPELESS["a half"], ((1, 2, deeds, "sum", "a"),) * 60), False)
+        long = (("come", 7, "a"), *[("more", None, None)] * 29)
+        book = book_of("rest open ; total sum ; worth sum open 1 one ; event come none to open amount group",
+                       "event more open to open ; on more ; add 1 one sum new")
+        self.assertIs(weights_hold(book, ((1, 29, long, "sum", "a"),) * 30), True)
+
+    def test_what_is_alike_at_the_limits(self):
+        head = ("rest k ; rest l ; total s ; total t ; note n ; worth s k 1 amount from 0 ; worth t l 1 one",
+                "event come none to k amount group ; event put k l to l amount group ; event back l to k group")
+        rows = ("on come ; add 1 new s new ; mark new ; put n new ; on put ; add -1 n s noted ; if not new below 0",
+                "add 999 new s new ; end ; on back ; if moved ; mark old ; end ; put n old ; add -999 n s noted")
+        p, q = book_of(*head, *rows), book_of(*[text.replace("note n", "note m").replace(" n ", " m ") for text in (*head, *rows)])
+        self.assertEqual((len(p) + len(q), p.cuts, alike(p, q), always_alike(p, q), parting(p, q)), (8, (0,), True, True, None))
+        other = q.with_factors((1, -1, 999, -998))
+        self.assertEqual((alike(p, other), always_alike(p, other), len(parting(p, other)[0])), (False, False, 3))
+        for seed in range(6):
+            p = drawn_book(seed, 2, 3, 1, 1, 4, 12, 2, (-999, 999, 7), (999999, -999999))
+            q = p.with_factors([factor + (at == 3) for at, factor in enumerate(p.factors)])
+            self.assertIs(alike(p, p), True)
+            self.assertIs(alike(p, q), 3 in idle(p))
+
+    def test_a_store_at_its_limits(self):
+        store = Store(Book.read(PLAIN))
+        for at in range(60):
+            store.do("x" if at == 0 else "y" if at == 1 else "xy"[at % 2], "come" if at < 2 else "set", (-1) ** at * 999999999,
+                     "a" if at < 2 else None)
+        self.assertEqual((len(store), store.kept("sum", "a"), store.off("sum", "a")), (60, 0, 0))
+        self.assertEqual([store.undo() for _ in range(61)], [True] * 60 + [False])
+        self.assertEqual(store.names, ())
 
     def test_drawn_books_at_the_limits(self):
         for seed in range(4):

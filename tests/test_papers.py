@@ -7,8 +7,9 @@ import unittest
 from sumlives.books import Book
 from sumlives.deciding import is_right, right_factors
 from sumlives.lives import run_life
-from sumlives.papers import paper, paper_holds, weights, weights_hold
+from sumlives.papers import contradiction, paper, paper_holds, weights, weights_hold
 from sumlives.standings import standings
+from sumlives.systems import Factors
 from tests.drawn import amounts_of, drawn_book, drawn_deeds
 from tests.helpers import NO_INTEGERS, NO_NAMES, PLAIN, raised
 from tests.tables import Reading, table_is_right, weights_are_right
@@ -439,6 +440,28 @@ class Weights(unittest.TestCase):
                               statements=1 + seed % 4, draw=(5, 6, 7, 12))
             seen[self.assert_weights(book) is None] += 1
         self.assertGreater(min(seen.values()), 5)
+
+    def test_drawn_equations(self):
+        rng = random.Random(8)
+        seen = {"some": 0, "no integers": 0, "none at all": 0}
+        for _ in range(1500):
+            many = rng.randint(1, 4)
+            most = rng.choice([2, 6, 60])
+            rows = [tuple(rng.randint(-most, most) for _ in range(many + 1)) for _ in range(rng.randint(1, 4))]
+            forms, rights = [row[:-1] for row in rows], [row[-1] for row in rows]
+            some = Factors.solving(many, forms, rights)
+            found = contradiction(rows, many)
+            self.assertIs(found is None, bool(some))
+            if some:
+                seen["some"] += 1
+                continue
+            times, whole = found
+            self.assertEqual((len(times), whole >= 1), (len(rows), True))
+            totals = [sum(time * row[at] for time, row in zip(times, rows)) for at in range(many + 1)]
+            self.assertEqual([total % whole for total in totals[:-1]], [0] * many)
+            self.assertNotEqual(totals[-1] % whole, 0)
+            seen["no integers" if any(totals[:-1]) else "none at all"] += 1
+        self.assertGreater(min(seen.values()), 100)
 
     def test_other_factors_change_nothing(self):
         for book in HOPELESS.values():

@@ -332,15 +332,16 @@ class Drawn(unittest.TestCase):
                 self.assert_covered(book, [life for _, life in lives_of(book, 5)], True)
 
     def test_all_short_lives_of_drawn_books(self):
+        # With two notes it is somewhat beyond the limits.
         for seed in range(60):
-            book = drawn_book(seed, kinds=1 + seed % 2, notes=seed % 2, cuts=seed // 2 % 3, totals=1 + seed % 2)
+            book = drawn_book(seed, kinds=1 + seed % 2, notes=seed % 3, cuts=seed // 2 % 3, totals=1 + seed % 2)
             with self.subTest(seed=seed):
                 self.assert_covered(book, [life for _, life in lives_of(book, 2)], False)
 
     def test_the_standings_come_and_the_vectors_are_sums(self):
         rng = random.Random(5)
         for seed in range(25):
-            book = drawn_book(seed, kinds=1 + seed % 2, notes=seed % 2, cuts=seed // 2 % 2, events=3, statements=2)
+            book = drawn_book(seed, kinds=1 + seed % 2, notes=seed % 3, cuts=seed // 2 % 2, events=3, statements=2)
             amounts = amounts_of(book)
             lives = [run_life(book, drawn_deeds(rng, book, 9, amounts)) for _ in range(1500)]
             lives = [life for _, life in lives_of(book, 2)] + [life for life in lives if life.groups]
